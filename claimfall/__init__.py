@@ -1,0 +1,1 @@
+"""claimfall: programs whose claims are kept, and the row in which qualities fall."""
