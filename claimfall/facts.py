@@ -3,9 +3,61 @@
 from claimfall.shapes import is_number
 
 
+class Sums:
+    """The least sums of all chains between unknowns, from the facts that were taken so far."""
+
+    def __init__(self):
+        self.clashing = False
+        self._loop = ()
+        self._many = 0
+        # For each unknown that was asked for, each one to which a chain leads: the pair (its sum, its way). A way is
+        # None, or a tuple (way, index, way), the indices being those of the facts in the order in which they came.
+        self._rows = {}
+
+    def take(self, facts):
+        """Take more facts."""
+        for fact in facts:
+            if not self.shows(fact):
+                self._shorten(fact, self._many)
+            self._many += 1
+
+    def shows(self, fact):
+        """Tell whether a fact follows from those that were taken."""
+        i, j, c = fact
+        if self.clashing or (i == j and c >= 0):
+            return True
+        row = self._row(i)
+        return j in row and row[j][0] <= c
+
+    def proof(self, fact):
+        """Return a round or a chain for a fact that follows."""
+        i, j, _ = fact
+        return self._loop if self.clashing else _indices(self._row(i)[j][1])
+
+    def _row(self, i):
+        return self._rows.setdefault(i, {i: (0, None)})
+
+    def _shorten(self, fact, at):
+        """Lower the sums of all chains that become less by way of a fact, which does not follow so far."""
+        i, j, c = fact
+        onward = self._row(j)
+        if i in onward and onward[i][0] + c < 0:
+            self.clashing = True
+            self._loop = (at, *_indices(onward[i][1]))
+            return
+        steps = [(last, rest, way) for last, (rest, way) in onward.items()]
+        for row in [sums for sums in self._rows.values() if i in sums]:
+            start, ahead = row[i]
+            if j not in row or start + c < row[j][0]:
+                for last, rest, way in steps:
+                    if last not in row or start + c + rest < row[last][0]:
+                        row[last] = (start + c + rest, (ahead, at, way))
+
+
 def clash(facts):
     """Return a round of the facts, or None if integers fulfil them all."""
-    return _round(facts, _level(facts))
+    tight = tightest(facts)
+    return _round(facts, tight, _level(facts, tight))
 
 
 def chain(facts, fact):
@@ -16,8 +68,9 @@ def chain(facts, fact):
     i, j, c = fact
     sums = {j: 0}
     steps = {}
+    tight = tightest(facts)
     # This ends: without a round, no sum falls below that of its best chain.
-    while _lower(facts, sums, steps) is not None:
+    while _lower(facts, tight, sums, steps) is not None:
         pass
     if i not in sums or sums[i] > c:
         return None
@@ -41,8 +94,9 @@ def proves(facts, fact, thing):
 
 def numbers_for(facts, many):
     """Return integers for so many unknowns that fulfil the facts, the first one 0, or None if the facts clash."""
-    values = _level(facts)
-    if _round(facts, values) is not None:
+    tight = tightest(facts)
+    values = _level(facts, tight)
+    if _round(facts, tight, values) is not None:
         return None
     zero = values.get(0, 0)
     return tuple([values.get(unknown, 0) - zero for unknown in range(many)])
@@ -59,22 +113,32 @@ def fulfil(values, facts):
     return all([values[i] <= values[j] + c for i, j, c in facts])
 
 
-def _level(facts):
+def tightest(facts):
+    """List the indices of the facts that lead to all others: for each two unknowns the one with the least number."""
+    least = {}
+    for at, (i, j, c) in enumerate(facts):
+        if (i, j) not in least or c < facts[least[i, j]][2]:
+            least[i, j] = at
+    return list(least.values())
+
+
+def _level(facts, tight):
     """Return a dict with 0 for each unknown of the facts."""
     values = {}
-    for i, j, _ in facts:
-        values[i] = 0
-        values[j] = 0
+    for at in tight:
+        values[facts[at][0]] = 0
+        values[facts[at][1]] = 0
     return values
 
 
-def _lower(facts, values, steps):
+def _lower(facts, tight, values, steps):
     """Lower each unknown that a fact asks to be lower, and keep in steps the index of the last such fact for it.
 
     Return an unknown that was lowered, or None. An unknown without a value is above all numbers.
     """
     lowered = None
-    for at, (i, j, c) in enumerate(facts):
+    for at in tight:
+        i, j, c = facts[at]
         if j in values and (i not in values or values[i] > values[j] + c):
             values[i] = values[j] + c
             steps[i] = at
@@ -82,12 +146,12 @@ def _lower(facts, values, steps):
     return lowered
 
 
-def _round(facts, values):
+def _round(facts, tight, values):
     """Lower the values, one for each unknown, until they fulfil the facts; return a round if this never ends."""
     steps = {}
     lowered = None
     for _ in range(len(values)):
-        lowered = _lower(facts, values, steps)
+        lowered = _lower(facts, tight, values, steps)
         if lowered is None:
             return None
     if lowered is None:
@@ -98,6 +162,20 @@ def _round(facts, values):
     for _ in range(len(values)):
         unknown = facts[steps[unknown]][1]
     return (steps[unknown], *_walk(facts, steps, facts[steps[unknown]][1], unknown))
+
+
+def _indices(way):
+    """Return the indices of a way (way, index, way) from the left, or of None."""
+    indices = []
+    waiting = [way]
+    while waiting:
+        part = waiting.pop()
+        if isinstance(part, tuple):
+            ahead, at, behind = part
+            waiting.extend([behind, at, ahead])
+        elif part is not None:
+            indices.append(part)
+    return tuple(indices)
 
 
 def _walk(facts, steps, first, last):

@@ -6,42 +6,10 @@ import random
 import unittest
 
 from claimfall.facts import against, chain, clash, fulfil, numbers_for, proves
+from tests.naive import is_chain, is_round, least_sums
 from tests.samples import DEEP, JUNK
 
 HUGE = 10 ** 5000
-
-
-def is_chain(facts, fact, thing):
-    """What q2 says, word by word."""
-    i, j, c = fact
-    if thing == ():
-        return i == j and c >= 0
-    ends = [facts[at][:2] for at in thing]
-    linked = all(ahead[1] == behind[0] for ahead, behind in zip(ends, ends[1:]))
-    return linked and ends[0][0] == i and ends[-1][1] == j and sum(facts[at][2] for at in thing) <= c
-
-
-def is_round(facts, thing):
-    if thing == ():
-        return False
-    home = facts[thing[0]][0]
-    return is_chain(facts, (home, home, -1), thing)
-
-
-def least_sums(facts, many):
-    """The least sum of a way between each two unknowns (None without a way), or None if the facts clash."""
-    sums = {(i, j): 0 if i == j else None for i in range(many) for j in range(many)}
-    for i, j, c in facts:
-        if sums[i, j] is None or c < sums[i, j]:
-            sums[i, j] = c
-    for k, i, j in itertools.product(range(many), repeat=3):
-        if sums[i, k] is not None and sums[k, j] is not None:
-            over = sums[i, k] + sums[k, j]
-            if sums[i, j] is None or over < sums[i, j]:
-                sums[i, j] = over
-    if any(sums[i, i] < 0 for i in range(many)):
-        return None
-    return sums
 
 
 class Asks(unittest.TestCase):

@@ -23,6 +23,27 @@ FUNCTIONS = {
         "check_program": ["program"],
         "index_of": ["program", "name"],
     },
+    "paths": {
+        "paths": ["program", "f"],
+        "unknowns": ["program", "f", "path"],
+    },
+    "assignments": {
+        "candidates": ["program", "numbers"],
+        "facts_at": ["program", "f", "path", "item", "assignment"],
+        "dues_at": ["program", "f", "path", "item", "assignment"],
+        "open_facts": ["program", "place"],
+        "is_kept": ["program", "assignment"],
+        "holds": ["program", "assignment"],
+    },
+    "falling": {
+        "strongest": ["program", "numbers"],
+        "strongest_within": ["program", "assignment"],
+        "is_let": ["program", "numbers"],
+    },
+    "papers": {
+        "paper": ["program", "numbers"],
+        "judge": ["program", "numbers", "thing"],
+    },
 }
 ERRORS = {
     "BadProgram": ["function", "reason"],

@@ -1,0 +1,126 @@
+"""Falling: the qualities that no kept assignment can have fall, until the strongest kept assignment is left."""
+
+from claimfall.assignments import POST, PRE, candidates, dues_of, facts_of, holds, open_facts, owed
+from claimfall.facts import Sums, tightest
+from claimfall.paths import ways
+from claimfall.programs import index_of
+
+
+def strongest(program, numbers):
+    """Return the strongest kept assignment for numbers."""
+    return strongest_within(program, candidates(program, numbers))
+
+
+def strongest_within(program, assignment):
+    """Return the strongest kept assignment of those that have no quality that this one does not have."""
+    return fallen(program, assignment)[0]
+
+
+def is_let(program, numbers):
+    """Tell whether a program is let with numbers."""
+    return holds(program, strongest(program, numbers))
+
+
+def fallen(program, assignment):
+    """Return the strongest kept assignment within an assignment, and the falls that lead to it.
+
+    A fall is a tuple (function, part, quality, path, item) with PRE or POST as its part.
+    """
+    falling = Falling(program, assignment)
+    falling.run()
+    return falling.standing.assignment(), falling.falls
+
+
+class Standing:
+    """The qualities of an assignment that have not fallen."""
+
+    def __init__(self, assignment):
+        # For each function, for PRE and POST: a dict with all of them, and a list of those that lead to all others.
+        self.left = [[{quality: True for quality in part} for part in pair] for pair in assignment]
+        self.tight = [[_tight(part) for part in pair] for pair in self.left]
+
+    def drop(self, f, part, quality):
+        """Let a quality fall."""
+        del self.left[f][part][quality]
+        self.tight[f][part] = _tight(self.left[f][part])
+
+    def assignment(self):
+        """Return the assignment of what is left."""
+        return tuple([tuple([tuple(part) for part in pair]) for pair in self.left])
+
+
+class Falling:
+    """Lets the qualities of an assignment fall that do not follow where they must."""
+
+    def __init__(self, program, assignment):
+        self.standing = Standing(assignment)
+        self.falls = []
+        self._program = program
+        self._paths = [[items for items, _ in ways(function)] for function in program[1]]
+        self._concerned = _concerned(program, self._paths)
+        # The paths, as pairs (function, path), that are to be gone through (again).
+        self._waiting = {}
+
+    def run(self):
+        """Let fall what has to fall."""
+        for place in range(len(self._program[2])):
+            self._look_at_open(place)
+        for f in range(len(self._paths)):
+            self._wait(self._concerned[f, PRE])
+        while self._waiting:
+            for f, path in list(self._waiting):
+                self._waiting.pop((f, path))
+                self._go(f, path)
+
+    def _look_at_open(self, place):
+        sums = Sums()
+        sums.take(open_facts(self._program, place))
+        f = index_of(self._program, self._program[2][place][0])
+        self._lose(f, PRE, [sums.shows(quality) for quality in self.standing.left[f][PRE]], (), -1)
+
+    def _go(self, f, path):
+        """Go through a path, and let fall what does not follow at its calls and its give."""
+        sums = Sums()
+        sums.take(self.standing.tight[f][PRE])
+        for at, item in enumerate(self._paths[f][path]):
+            if sums.clashing:
+                return
+            if item[0] in ("call", "give") and not self._follows(sums, f, item):
+                owner, part = owed(self._program, f, item)
+                dues = dues_of(self._program, f, item, self.standing.left)
+                self._lose(owner, part, [sums.shows(due) for due in dues], (f, path), at)
+            sums.take(facts_of(self._program, item, self.standing.tight))
+
+    def _follows(self, sums, f, item):
+        return all([sums.shows(due) for due in dues_of(self._program, f, item, self.standing.tight)])
+
+    def _lose(self, f, part, shown, path, item):
+        """Let those qualities of a part fall that are not shown, and have the paths wait on which they were facts."""
+        lost = [quality for quality, follows in zip(list(self.standing.left[f][part]), shown) if not follows]
+        # The greater numbers fall first: what speaks against them speaks against the lesser ones, too.
+        for quality in reversed(lost):
+            self.falls.append((f, part, quality, path, item))
+            self.standing.drop(f, part, quality)
+        if lost:
+            self._wait(self._concerned[f, part])
+
+    def _wait(self, pairs):
+        for pair in pairs:
+            self._waiting[pair] = True
+
+
+def _concerned(program, paths):
+    """Return a dict with, for each function and part, the list of the paths on which its qualities are facts."""
+    concerned = {(f, part): [] for f in range(len(paths)) for part in (PRE, POST)}
+    for f, rows in enumerate(paths):
+        for path, items in enumerate(rows):
+            concerned[f, PRE].append((f, path))
+            for g in sorted({index_of(program, item[1]) for item in items if item[0] == "call"}):
+                concerned[g, POST].append((f, path))
+    return concerned
+
+
+def _tight(qualities):
+    """List those of ascending qualities that lead to all others."""
+    rows = list(qualities)
+    return [rows[at] for at in tightest(rows)]
