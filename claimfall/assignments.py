@@ -130,11 +130,6 @@ def is_assignment(program, numbers, thing):
     return all([_is_pair(places(function), numbers, pair) for function, pair in zip(program[1], thing)])
 
 
-def is_candidate(many, numbers, thing):
-    """Tell whether a thing is a candidate for numbers with so many places."""
-    return is_quality(thing, many) and thing[2] in numbers
-
-
 def _is_pair(many, numbers, thing):
     if not isinstance(thing, tuple) or len(thing) != 2:
         return False
@@ -142,9 +137,13 @@ def _is_pair(many, numbers, thing):
 
 
 def _are_candidates(many, numbers, thing):
-    if not isinstance(thing, tuple) or not all([is_candidate(many, numbers, quality) for quality in thing]):
+    if not isinstance(thing, tuple) or not all([_is_candidate(many, numbers, quality) for quality in thing]):
         return False
     return all([ahead < quality for ahead, quality in zip(thing, thing[1:])])
+
+
+def _is_candidate(many, numbers, thing):
+    return is_quality(thing, many) and thing[2] in numbers
 
 
 def _candidates(many, numbers):

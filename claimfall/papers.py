@@ -1,14 +1,14 @@
 """Papers: what shows that a program is let, or that it is not, and whether a thing shows it."""
 
 from claimfall.assignments import (
-    PRE, candidates, dues_of, facts_ahead, facts_of, handed, is_assignment, is_candidate, open_facts, owed, places,
-    unproved, with_terms,
+    PRE, candidates, dues_of, facts_ahead, facts_of, handed, is_assignment, open_facts, owed, places, unproved,
+    with_terms,
 )
 from claimfall.facts import Sums, against, fulfil, proves
 from claimfall.falling import Standing, fallen
 from claimfall.paths import ways
 from claimfall.programs import index_of
-from claimfall.shapes import is_number
+from claimfall.shapes import is_number, is_quality
 
 # The words of PRE and POST.
 _PARTS = ("pre", "post")
@@ -196,20 +196,20 @@ def _is_refused(program, numbers, falls, look):
         return False
     course = Course(program, candidates(program, numbers))
     for fall in falls:
-        if not _is_fall(course, numbers, fall):
+        if not _is_fall(course, fall):
             return False
         _, f, word, quality, _, _, _ = fall
         course.standing.drop(f, _PARTS.index(word), quality)
     return _is_look(course, look)
 
 
-def _is_fall(course, numbers, thing):
+def _is_fall(course, thing):
     if not _has_length(thing, 7) or thing[0] != "fall" or thing[2] not in _PARTS:
         return False
     _, f, word, quality, path, item, values = thing
     part = _PARTS.index(word)
     functions = course.program[1]
-    if not _is_index(f, len(functions)) or not is_candidate(places(functions[f]) + part, numbers, quality):
+    if not _is_index(f, len(functions)) or not is_quality(quality, places(functions[f]) + part):
         return False
     if quality not in course.standing.left[f][part] or not course.is_owed(f, part, path, item):
         return False

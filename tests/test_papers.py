@@ -174,6 +174,15 @@ class Papers(Asks):
         self.assertEqual(set(fall[5] for fall in at_opens), {-1})
         self.assertEqual(set(len(fall[6]) for fall in at_opens), {3})
 
+    def test_opens_of_functions_with_other_params(self):
+        for params, more in (((("x", "int"),), ("y", "int")), ((("r", "array"), ("x", "int")), ("s", "array"))):
+            functions = (fun("f", params, GIVE), fun("g", (*params, more), ("never",)))
+            for opens in ((("f", ()), ("g", ())), (("g", ()), ("f", ())), (("f", ()), ("g", ((0, 2, -3), (1, 2, 0))))):
+                told = self.assert_paper(("program", functions, opens), SEVEN, "refused")
+                for _, f, _, _, path, _, values in told[1]:
+                    if path == ():
+                        self.assertEqual(len(values), len(functions[f][2]) + 1)
+
     def test_facts_that_clash_on_a_path(self):
         body = ("if", ("most", ("len", "r", 0), ("num", -1)), ("let", "u", ("at", "r", X), ("give", name("u"))), GIVE)
         told = self.assert_paper(program_of(body), SEVEN, "let")
@@ -441,6 +450,29 @@ class Refusals(Asks):
                 self.assert_judged(program, (0,), told, right)
         # Nothing calls b: all of its pre stands, among it that x is at most the length.
         self.assert_judged(program, (0,), ("refused", (fall,), look), False)
+
+    def test_falls_of_post_at_a_call(self):
+        call = ("call", "b", (name("x", 1), ("array", "r")))
+        body = ("if", ("most", X, ("num", 5)), ("let", "u", call, GIVE), ("never",))
+        program = program_of(body, GIVE)
+        free = (("fall", 0, "pre", (1, 2, 0), (), -1, (0, 1, 0)), ("fall", 0, "pre", (1, 0, 0), (), -1, (0, 1, 1)))
+        look = ("look", (0, 1), 2, (0, 6, 0))
+        self.assert_judged(program, (0,), ("refused", free, look), True)
+        for f, part, right in ((1, "pre", True), (1, "post", False), (0, "pre", False), (0, "post", False)):
+            fall = ("fall", f, part, (1, 2, 0), (0, 0), 2, (0, 1, 0, 0))
+            ends = ("fall", 1, "post", (1, 3, 0), (1, 0), 1, (0, 1, 1, 0))
+            self.assert_judged(program, (0,), ("refused", (*free, fall), look), right)
+            self.assert_judged(program, (0,), ("refused", (*free, put_in(fall, (3,), (1, 3, 0))), look), False)
+            self.assert_judged(program, (0,), ("refused", (*free, ends), look), False)
+
+    def test_a_look_at_what_is_none(self):
+        call = ("call", "a", (name("x", 1), ("array", "r")))
+        body = ("if", ("most", X, ZERO), ("let", "u", call, ("give", name("u"))), ("never",))
+        # Items of the first path: the fact of the length, that of the if, the call, the give.
+        for path, item, values in (((0, 0), 0, (0, 0, -1, 0)), ((0, 0), 1, (0, 1, 1, 0)), ((0, 0), 2, (0, 0, 0, 0)),
+                                   ((0, 0), 3, (0, 0, 0, 0)), ((0, 1), 0, (0, 1, -1)), ((0, 1), 1, (0, 0, 0))):
+            self.assert_judged(program_of(body), (), ("refused", (), ("look", path, item, values)), False)
+        self.assert_judged(program_of(body), (), ("refused", (), ("look", (0, 1), 2, (0, 1, 0))), True)
 
     def test_values_for_each_unknown_of_the_path(self):
         body = ("claim", ("most", ZERO, X), ("let", "u", ("any",), ("let", "v", ("any",), GIVE)))
