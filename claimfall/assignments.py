@@ -123,6 +123,25 @@ def with_terms(qualities, terms):
     return [(terms[i][0], terms[j][0], c + terms[j][1] - terms[i][1]) for i, j, c in qualities]
 
 
+def without(assignment, gone):
+    """Return an assignment without some qualities, told as triples (function, part, quality)."""
+    tables = {}
+    for f, part, quality in gone:
+        tables.setdefault((f, part), {})[quality] = True
+    left = [list(pair) for pair in assignment]
+    for (f, part), table in tables.items():
+        left[f][part] = tuple([quality for quality in left[f][part] if quality not in table])
+    return tuple([tuple(pair) for pair in left])
+
+
+def triples_of(assignment):
+    """List the qualities of an assignment as triples (function, part, quality), those of pre ahead of those of post."""
+    return [
+        (f, part, quality)
+        for f, pair in enumerate(assignment) for part, qualities in enumerate(pair) for quality in qualities
+    ]
+
+
 def is_assignment(program, numbers, thing):
     """Tell whether a thing is an assignment of candidates for numbers."""
     if not isinstance(thing, tuple) or len(thing) != len(program[1]):

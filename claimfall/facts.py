@@ -29,6 +29,11 @@ class Sums:
         row = self._row(i)
         return j in row and row[j][0] <= c
 
+    def least(self, i, j):
+        """Return the least sum of the chains from an unknown to another one, or None; the facts do not clash."""
+        row = self._row(i)
+        return row[j][0] if j in row else None
+
     def proof(self, fact):
         """Return a round or a chain for a fact that follows."""
         i, j, _ = fact

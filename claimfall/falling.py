@@ -44,9 +44,14 @@ class Standing:
         del self.left[f][part][quality]
         self.tight[f][part] = _tight(self.left[f][part])
 
+    def restore(self, f, part, quality):
+        """Have a quality stand again that fell."""
+        self.left[f][part][quality] = True
+        self.tight[f][part] = _tight(self.left[f][part])
+
     def assignment(self):
         """Return the assignment of what is left."""
-        return tuple([tuple([tuple(part) for part in pair]) for pair in self.left])
+        return tuple([tuple([tuple(sorted(part)) for part in pair]) for pair in self.left])
 
 
 class Falling:
@@ -57,26 +62,21 @@ class Falling:
         self.falls = []
         self._program = program
         self._paths = [[items for items, _ in ways(function)] for function in program[1]]
-        self._concerned = _concerned(program, self._paths)
+        self._concerned = concerned(program, self._paths)
         # The paths, as pairs (function, path), that are to be gone through (again).
         self._waiting = {}
 
     def run(self):
         """Let fall what has to fall."""
         for place in range(len(self._program[2])):
-            self._look_at_open(place)
+            f, lost = lost_at_open(self._program, place, self.standing)
+            self._lose(f, PRE, lost, (), -1)
         for f in range(len(self._paths)):
             self._wait(self._concerned[f, PRE])
         while self._waiting:
             for f, path in list(self._waiting):
                 self._waiting.pop((f, path))
                 self._go(f, path)
-
-    def _look_at_open(self, place):
-        sums = Sums()
-        sums.take(open_facts(self._program, place))
-        f = index_of(self._program, self._program[2][place][0])
-        self._lose(f, PRE, [sums.shows(quality) for quality in self.standing.left[f][PRE]], (), -1)
 
     def _go(self, f, path):
         """Go through a path, and let fall what does not follow at its calls and its give."""
@@ -85,18 +85,13 @@ class Falling:
         for at, item in enumerate(self._paths[f][path]):
             if sums.clashing:
                 return
-            if item[0] in ("call", "give") and not self._follows(sums, f, item):
+            if item[0] in ("call", "give"):
                 owner, part = owed(self._program, f, item)
-                dues = dues_of(self._program, f, item, self.standing.left)
-                self._lose(owner, part, [sums.shows(due) for due in dues], (f, path), at)
+                self._lose(owner, part, lost_at(self._program, f, item, sums, self.standing), (f, path), at)
             sums.take(facts_of(self._program, item, self.standing.tight))
 
-    def _follows(self, sums, f, item):
-        return all([sums.shows(due) for due in dues_of(self._program, f, item, self.standing.tight)])
-
-    def _lose(self, f, part, shown, path, item):
-        """Let those qualities of a part fall that are not shown, and have the paths wait on which they were facts."""
-        lost = [quality for quality, follows in zip(list(self.standing.left[f][part]), shown) if not follows]
+    def _lose(self, f, part, lost, path, item):
+        """Let some qualities of a part fall, and have the paths wait on which they were facts."""
         # The greater numbers fall first: what speaks against them speaks against the lesser ones, too.
         for quality in reversed(lost):
             self.falls.append((f, part, quality, path, item))
@@ -109,18 +104,38 @@ class Falling:
             self._waiting[pair] = True
 
 
-def _concerned(program, paths):
-    """Return a dict with, for each function and part, the list of the paths on which its qualities are facts."""
-    concerned = {(f, part): [] for f in range(len(paths)) for part in (PRE, POST)}
-    for f, rows in enumerate(paths):
-        for path, items in enumerate(rows):
-            concerned[f, PRE].append((f, path))
+def lost_at_open(program, place, standing):
+    """Return the function of an open, and those of its qualities that stand, but do not follow from the promises."""
+    f = index_of(program, program[2][place][0])
+    sums = Sums()
+    sums.take(open_facts(program, place))
+    return f, [quality for quality in standing.left[f][PRE] if not sums.shows(quality)]
+
+
+def lost_at(program, f, item, sums, standing):
+    """List the qualities that stand and must follow at a call or give, but do not follow from the facts in sums."""
+    if all([sums.shows(due) for due in dues_of(program, f, item, standing.tight)]):
+        return []
+    owner, part = owed(program, f, item)
+    dues = dues_of(program, f, item, standing.left)
+    return [quality for quality, due in zip(list(standing.left[owner][part]), dues) if not sums.shows(due)]
+
+
+def concerned(program, rows):
+    """Return a dict with, for each function and part, the list of the paths on which its qualities are facts.
+
+    The rows are, for each function, the list of the items of each path; a path is told as a pair (function, path).
+    """
+    found = {(f, part): [] for f in range(len(rows)) for part in (PRE, POST)}
+    for f, paths in enumerate(rows):
+        for path, items in enumerate(paths):
+            found[f, PRE].append((f, path))
             for g in sorted({index_of(program, item[1]) for item in items if item[0] == "call"}):
-                concerned[g, POST].append((f, path))
-    return concerned
+                found[g, POST].append((f, path))
+    return found
 
 
 def _tight(qualities):
-    """List those of ascending qualities that lead to all others."""
+    """List those of some qualities that lead to all others."""
     rows = list(qualities)
     return [rows[at] for at in tightest(rows)]

@@ -26,6 +26,14 @@ def index_of(program, name):
     return _place_of(program[1], name)
 
 
+def open_of(program, name):
+    """Return the number of the open with this name, or -1."""
+    for place, (opened, _) in enumerate(program[2]):
+        if opened == name:
+            return place
+    return -1
+
+
 def _place_of(functions, name):
     for at, function in enumerate(functions):
         if function[1] == name:

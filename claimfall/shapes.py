@@ -1,5 +1,7 @@
 """The shapes of numbers, names, qualities and the parts of programs."""
 
+MOST_NUMBERS = 7
+GREATEST = 100
 MOST_PARAMS = 5
 MOST_LETTERS = 8
 
@@ -36,6 +38,24 @@ _WORDS = {
 def is_number(thing):
     """Tell whether a thing is an integer; True and False are none."""
     return isinstance(thing, int) and not isinstance(thing, bool)
+
+
+def is_index(thing, many):
+    """Tell whether a thing is the index of one of so many."""
+    return is_number(thing) and 0 <= thing < many
+
+
+def is_row(thing, many):
+    """Tell whether a thing is a tuple of so many items."""
+    return isinstance(thing, tuple) and len(thing) == many
+
+
+def are_numbers(thing):
+    """Tell whether a thing is a tuple of integers that qualities can have."""
+    if not isinstance(thing, tuple) or len(thing) > MOST_NUMBERS or not all([is_number(number) for number in thing]):
+        return False
+    within = all([-GREATEST <= number <= GREATEST for number in thing])
+    return within and all([ahead < number for ahead, number in zip(thing, thing[1:])])
 
 
 def is_name(thing):
@@ -106,3 +126,8 @@ def names_in(thing):
         elif kind in ("term", "condition", "value"):
             found.extend(names_in(part))
     return found
+
+
+def bodies_in(thing):
+    """List the bodies that stand in a body, the first one of an if ahead of the second."""
+    return [part for kind, part in zip(_PARTS[thing[0]], thing[1:]) if kind == "body"]
