@@ -80,7 +80,7 @@ class Deeds(Asks):
         self.assertIsNone(desk.let_in("g", ()))
         self.assertIsNone(desk.drop("f"))
         self.assertEqual((desk.functions, desk.opens), ((NONE,), (("g", ()),)))
-        self.assert_state(desk, ("let", 0), "let by 0")
+        self.assert_state(desk, ("let", 2), "let by 2")
         self.assertIsNone(desk.drop("g"))
         self.assertEqual((desk.functions, desk.opens), ((), ()))
         self.assert_state(desk, ("open",), "open")
