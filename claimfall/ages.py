@@ -31,38 +31,40 @@ def _losses(program, assignment):
     standing = Standing(assignment)
     rows = [[items for items, _ in ways(function)] for function in program[1]]
     touched = concerned(program, rows)
-    waiting = {(f, path): True for f, paths in enumerate(rows) for path in range(len(paths))}
+    # The paths that are to be gone through in the next round, the facts on them having changed.
+    waiting = [(f, path) for f, paths in enumerate(rows) for path in range(len(paths))]
     lost = _lost_at_opens(program, standing)
     losses = []
     while waiting:
         for f, path in waiting:
-            lost.update(_lost_on(program, f, rows[f][path], standing))
-        waiting = {}
-        for f, part, quality in lost:
+            lost.extend(_lost_on(program, f, rows[f][path], standing))
+        # What does not follow at several places falls once.
+        falling = list({triple: True for triple in lost})
+        for f, part, quality in falling:
             standing.drop(f, part, quality)
-            waiting.update({pair: True for pair in touched[f, part]})
-        if lost:
-            losses.append(list(lost))
-        lost = {}
+        if falling:
+            losses.append(falling)
+        waiting = list({pair: True for f, part, _ in falling for pair in touched[f, part]})
+        lost = []
     return losses
 
 
 def _lost_at_opens(program, standing):
-    lost = {}
+    lost = []
     for place in range(len(program[2])):
         f, qualities = lost_at_open(program, place, standing)
-        lost.update({(f, PRE, quality): True for quality in qualities})
+        lost.extend([(f, PRE, quality) for quality in qualities])
     return lost
 
 
 def _lost_on(program, f, items, standing):
-    """Return a dict of the triples that do not follow at the calls and the give of a path."""
+    """List the triples that do not follow at the calls and the give of a path."""
     sums = Sums()
     sums.take(standing.tight[f][PRE])
-    lost = {}
+    lost = []
     for item in items:
         if item[0] in ("call", "give") and not sums.clashing:
             owner, part = owed(program, f, item)
-            lost.update({(owner, part, quality): True for quality in lost_at(program, f, item, sums, standing)})
+            lost.extend([(owner, part, quality) for quality in lost_at(program, f, item, sums, standing)])
         sums.take(facts_of(program, item, standing.tight))
     return lost

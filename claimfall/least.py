@@ -102,7 +102,8 @@ def _table(things, is_enough):
         if part not in known:
             enough = is_enough(part)
             alike = [other for other in parts if (_is_within(part, other) if enough else _is_within(other, part))]
-            known.update({other: enough for other in alike})
+            for other in alike:
+                known[other] = enough
     least = [part for part in parts if known[part] and not any([known[less] for less in _one_less(parts, part)])]
     greatest = [part for part in parts if not known[part] and all([known[more] for more in _one_more(parts, part)])]
     return tuple(sorted(least)), tuple(sorted(greatest))

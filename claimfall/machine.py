@@ -103,7 +103,7 @@ class Run:
         _, name, arguments, outside = call
         self._program = program
         self._codes = codes
-        self._outside = outside
+        self._drawable = outside
         self._drawn = 0
         self._within = []
         # All activations in the order in which they begin.
@@ -181,11 +181,11 @@ class Run:
         now.name_new(number)
 
     def _draw(self, now):
-        if self._drawn == len(self._outside):
+        if self._drawn == len(self._drawable):
             self.end = ("waits",)
         else:
             self._drawn += 1
-            self._find(now, self._outside[self._drawn - 1])
+            self._find(now, self._drawable[self._drawn - 1])
 
     def _claim(self, now, condition):
         s, t = now.worth(condition[1]), now.worth(condition[2])

@@ -103,10 +103,9 @@ def _narrow(program, assignment, f, items, fitting):
             return
         key = (f, index_of(program, item[1])) if item[0] == "call" else None
         if key in fitting:
+            left = fitting[key]
             terms = ((0, 0), *item[2])
-            fitting[key] = {
-                (own, other): True for own, other in fitting[key] if _is_less(sums, own, other, terms)
-            }
+            fitting[key] = {(own, other): True for own, other in left if _is_less(sums, own, other, terms)}
         sums.take(facts_of(program, item, assignment))
 
 

@@ -32,7 +32,8 @@ class Shortening:
     def shortened(self, falls, triple, path, item):
         """List the steps that are left of some falls, and last the goal, the fall of a triple or, with None, a look."""
         steps = self._asked(falls, self._step(triple, path, item))
-        for at in reversed(range(len(steps) - 1)):
+        many = len(steps) - 1
+        for at in reversed(range(many)):
             self._course.standing = Standing(without(self._every, [step.triple for step in steps[:at]]))
             renewed = self._renewed(steps[at].triple, steps[at + 1:])
             if renewed is not None:
@@ -51,9 +52,8 @@ class Shortening:
         """
         gone = {(f, part, quality): True for f, part, quality, _, _ in falls}
         self._course.standing = Standing(without(self._every, list(gone)))
-        asked = {}
         self._show(goal)
-        asked.update(self._broken(goal, gone))
+        asked = {triple: True for triple in self._broken(goal, gone)}
         steps = [goal]
         for f, part, quality, path, item in reversed(falls):
             triple = (f, part, quality)
@@ -62,8 +62,9 @@ class Shortening:
             if triple in asked:
                 step = self._step(triple, path, item)
                 self._show(step)
-                asked.update(self._broken(step, gone))
                 steps.append(step)
+                for other in self._broken(step, gone):
+                    asked[other] = True
         steps.reverse()
         return steps
 
@@ -71,7 +72,7 @@ class Shortening:
         """Return some steps, with new values where they need them as one quality more stands; None if one has none."""
         renewed = []
         for step in steps:
-            if self._broken(step, {kept: True}):
+            if self._broken(step, [kept]):
                 step = self._step(step.triple, step.path, step.item)
                 self._show(step)
                 if step.shown is None:
@@ -88,10 +89,10 @@ class Shortening:
         step.shown = self._course.values_against(f, step.path, step.item, step.asked)
 
     def _broken(self, step, triples):
-        """Return a dict of those triples that are facts at a step which its values do not fulfil."""
-        broken = {}
+        """List those triples that are facts at a step which its values do not fulfil."""
+        broken = []
         for f, part, terms in self._course.sources(step.path, step.item):
             for triple in triples:
                 if triple[:2] == (f, part) and not fulfil(step.shown, with_terms((triple[2],), terms)):
-                    broken[triple] = True
+                    broken.append(triple)
         return broken

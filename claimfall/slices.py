@@ -59,7 +59,8 @@ def spread(starts, rows):
     found = {f: True for f in starts}
     waiting = list(found)
     while waiting:
-        for g in rows[waiting.pop()]:
+        f = waiting.pop()
+        for g in rows[f]:
             if g not in found:
                 found[g] = True
                 waiting.append(g)
