@@ -40,8 +40,7 @@ def _losses(program, assignment):
             lost.extend(_lost_on(program, f, rows[f][path], standing))
         # What does not follow at several places falls once.
         falling = list({triple: True for triple in lost})
-        for f, part, quality in falling:
-            standing.drop(f, part, quality)
+        standing.drop(falling)
         if falling:
             losses.append(falling)
         waiting = list({pair: True for f, part, _ in falling for pair in touched[f, part]})

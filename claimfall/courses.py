@@ -98,7 +98,7 @@ def are_falls(course, thing):
         if not _is_fall(course, fall):
             return False
         _, f, word, quality, _, _, _ = fall
-        course.standing.drop(f, PARTS.index(word), quality)
+        course.standing.drop([(f, PARTS.index(word), quality)])
     return True
 
 

@@ -1,6 +1,6 @@
 """Falling: the qualities that no kept assignment can have fall, until the strongest kept assignment is left."""
 
-from claimfall.assignments import POST, PRE, candidates, dues_of, facts_of, holds, open_facts, owed
+from claimfall.assignments import POST, PRE, candidates, dues_of, facts_of, open_facts, owed
 from claimfall.facts import Sums, tightest
 from claimfall.paths import ways
 from claimfall.programs import index_of
@@ -18,7 +18,14 @@ def strongest_within(program, assignment):
 
 def is_let(program, numbers):
     """Tell whether a program is let with numbers."""
-    return holds(program, strongest(program, numbers))
+    return is_let_within(program, candidates(program, numbers))
+
+
+def is_let_within(program, assignment):
+    """Tell whether the strongest kept assignment within an assignment holds."""
+    falling = Falling(program, assignment)
+    falling.run()
+    return falling.holding
 
 
 def fallen(program, assignment):
@@ -39,10 +46,14 @@ class Standing:
         self.left = [[{quality: True for quality in part} for part in pair] for pair in assignment]
         self.tight = [[_tight(part) for part in pair] for pair in self.left]
 
-    def drop(self, f, part, quality):
-        """Let a quality fall."""
-        del self.left[f][part][quality]
-        self.tight[f][part] = _tight(self.left[f][part])
+    def drop(self, triples):
+        """Let some qualities fall, told as triples (function, part, quality)."""
+        touched = {}
+        for f, part, quality in triples:
+            del self.left[f][part][quality]
+            touched[f, part] = True
+        for f, part in touched:
+            self.tight[f][part] = _tight(self.left[f][part])
 
     def restore(self, f, part, quality):
         """Have a quality stand again that fell."""
@@ -60,6 +71,8 @@ class Falling:
     def __init__(self, program, assignment):
         self.standing = Standing(assignment)
         self.falls = []
+        # Whether all looks follow that were come to; one that once does not never does, as facts only become fewer.
+        self.holding = True
         self._program = program
         self._paths = [[items for items, _ in ways(function)] for function in program[1]]
         self._concerned = concerned(program, self._paths)
@@ -74,9 +87,31 @@ class Falling:
         for f in range(len(self._paths)):
             self._wait(self._concerned[f, PRE])
         while self._waiting:
-            for f, path in list(self._waiting):
-                self._waiting.pop((f, path))
-                self._go(f, path)
+            self._go_through_waiting()
+
+    def leave_out(self, triples):
+        """Leave some qualities out of what stands, a kept assignment that holds, and let fall what has to fall then.
+
+        Tell whether what is left holds; if it does not, all stands as before.
+        """
+        ahead = self.standing.assignment()
+        left = self.standing.left
+        self.standing.drop([(f, part, quality) for f, part, quality in triples if quality in left[f][part]])
+        for f, part, _ in triples:
+            self._wait(self._concerned[f, part])
+        while self._waiting and self.holding:
+            self._go_through_waiting()
+        if self.holding:
+            return True
+        self.standing = Standing(ahead)
+        self._waiting = {}
+        self.holding = True
+        return False
+
+    def _go_through_waiting(self):
+        for f, path in list(self._waiting):
+            self._waiting.pop((f, path))
+            self._go(f, path)
 
     def _go(self, f, path):
         """Go through a path, and let fall what does not follow at its calls and its give."""
@@ -88,15 +123,16 @@ class Falling:
             if item[0] in ("call", "give"):
                 owner, part = owed(self._program, f, item)
                 self._lose(owner, part, lost_at(self._program, f, item, sums, self.standing), (f, path), at)
+            if item[0] == "look" and not sums.shows(item[1:]):
+                self.holding = False
             sums.take(facts_of(self._program, item, self.standing.tight))
 
     def _lose(self, f, part, lost, path, item):
         """Let some qualities of a part fall, and have the paths wait on which they were facts."""
-        # The greater numbers fall first: what speaks against them speaks against the lesser ones, too.
-        for quality in reversed(lost):
-            self.falls.append((f, part, quality, path, item))
-            self.standing.drop(f, part, quality)
         if lost:
+            # The greater numbers fall first: what speaks against them speaks against the lesser ones, too.
+            self.falls.extend([(f, part, quality, path, item) for quality in reversed(lost)])
+            self.standing.drop([(f, part, quality) for quality in lost])
             self._wait(self._concerned[f, part])
 
     def _wait(self, pairs):

@@ -1,8 +1,8 @@
 """Least sets: which numbers and promises are enough, which qualities are needed, and refused papers that are short."""
 
-from claimfall.assignments import candidates, holds, triples_of, unproved, without
+from claimfall.assignments import candidates, triples_of, unproved, without
 from claimfall.errors import BadState, TooGreat
-from claimfall.falling import fallen, strongest, strongest_within
+from claimfall.falling import Falling, fallen, is_let_within, strongest
 from claimfall.papers import judge, paper
 from claimfall.shapes import is_number, is_row
 from claimfall.shortening import Shortening
@@ -18,7 +18,7 @@ def number_table(program, numbers):
     def is_enough(part):
         # What is kept with fewer numbers is kept with more, so it stands within this.
         left = without(kept, [triple for triple in triples if triple[2][2] not in part])
-        return holds(program, strongest_within(program, left))
+        return is_let_within(program, left)
 
     return _table(numbers, is_enough)
 
@@ -62,24 +62,23 @@ def judge_table(program, numbers, thing):
 
 def needed(program, numbers):
     """Return the assignment of the needed qualities; raise BadState if the program is not let."""
-    left = strongest(program, numbers)
-    if not holds(program, left):
+    falling = Falling(program, candidates(program, numbers))
+    falling.run()
+    if not falling.holding:
         raise BadState("the program is not let")
-    triples = triples_of(left)
+    triples = triples_of(falling.standing.assignment())
     at = 0
     many = 1
     while at < len(triples):
-        # Leaving out several at once and then each one comes to the same: if all can go, each can behind those ahead.
-        within = strongest_within(program, without(left, triples[at:at + many]))
-        if holds(program, within):
-            left = within
+        # To leave out several at once comes to the same as one by one: if all can go, each can behind the others.
+        if falling.leave_out(triples[at:at + many]):
             at += many
             many *= 2
         elif many > 1:
             many //= 2
         else:
             at += 1
-    return left
+    return falling.standing.assignment()
 
 
 def short(program, numbers):
@@ -150,7 +149,7 @@ def _promise_table(program, numbers, pairs):
     def is_enough(part):
         fewer = _without_promises(program, [pair for pair in pairs if pair not in part])
         # What is kept with fewer promises is kept with more, so it stands within this.
-        return holds(fewer, strongest_within(fewer, kept))
+        return is_let_within(fewer, kept)
 
     return _table(pairs, is_enough)
 

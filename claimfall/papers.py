@@ -68,7 +68,7 @@ def _refused(program, every, falls, wrong):
         if (f, path, item) != ahead or fulfil(values, (due,)):
             values = course.values_against(f, path, item, due)
         told.append(("fall", f, PARTS[part], quality, path, item, values))
-        course.standing.drop(f, part, quality)
+        course.standing.drop([(f, part, quality)])
         ahead = (f, path, item)
     f, number, item = wrong
     look = course.item_at((f, number), item)

@@ -71,15 +71,17 @@ class Shortening:
     def _renewed(self, kept, steps):
         """Return some steps, with new values where they need them as one quality more stands; None if one has none."""
         renewed = []
+        falling = []
         for step in steps:
             if self._broken(step, [kept]):
+                self._course.standing.drop(falling)
+                falling = []
                 step = self._step(step.triple, step.path, step.item)
                 self._show(step)
                 if step.shown is None:
                     return None
             renewed.append(step)
-            if step.triple is not None:
-                self._course.standing.drop(*step.triple)
+            falling.append(step.triple)
         return renewed
 
     def _show(self, step):
