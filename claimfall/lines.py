@@ -41,7 +41,7 @@ def read_promise(text, params):
     second, c = _parted(rest)
     # Place 0 is the number 0 itself; the other ones are told by their names.
     told = ["0", *["len " + name if kind == "array" else name for name, kind in params]]
-    if c is None or first not in told or second not in told or first == second:
+    if first not in told or second not in told or first == second:
         return None
     return (told.index(first), told.index(second), c)
 
@@ -52,8 +52,6 @@ def read_term(text):
     if number is not None:
         return ("num", number)
     base, c = _parted(text)
-    if c is None:
-        return None
     if base.startswith("len "):
         return _whole(["len", _read_name(base[len("len "):]), c])
     return _whole(["name", _read_name(base), c])
@@ -105,13 +103,11 @@ def _read_entry(text):
 
 
 def _parted(text):
-    """Return what stands ahead of ` + C` or ` - C`, and C with its sign, 0 without; (text, None) if it is no C."""
+    """Return what stands ahead of ` + C` or ` - C`, and C with its sign; or the whole text, and 0."""
     for sign, factor in ((" + ", 1), (" - ", -1)):
-        if sign in text:
-            base, _, digits = text.partition(sign)
-            number = _read_number(digits)
-            if number is None or number <= 0:
-                return text, None
+        base, found, digits = text.partition(sign)
+        number = _read_number(digits)
+        if found and number is not None and number > 0:
             return base, factor * number
     return text, 0
 

@@ -354,6 +354,8 @@ class TakenBack(Asks):
             with self.assertRaises(BadState):
                 replayed((0,), [*log[:2], last])
         self.assertEqual(log, [("put", HALF), ("put", NONE), ("shut", "f"), ("drop", "k")])
+        with self.assertRaises(BadState):
+            replayed((0,), [("open", "f")])
 
     def test_branch(self):
         desk = desk_of(BOTH, (0,))

@@ -3,7 +3,7 @@
 import itertools
 import unittest
 
-from claimfall.assignments import candidates, holds, is_kept
+from claimfall.assignments import holds, is_kept
 from claimfall.errors import BadState, TooGreat
 from claimfall.falling import is_let, strongest, strongest_within
 from claimfall.least import (
@@ -14,7 +14,7 @@ from claimfall.programs import check_program
 from tests import naive, naive_more
 from tests.asks import Unchanged
 from tests.chance import Maker
-from tests.samples import BOTH, DEEP, DOWN, EXAMPLE, EXAMPLE_KEPT, GIVE, HALVES, JUNK, LOST, MOST, ZERO, fun, name, program_of
+from tests.samples import BOTH, DEEP, DOWN, EXAMPLE, GIVE, HALVES, JUNK, LOST, ZERO, fun, name, program_of
 
 SEVEN = (-100, -2, -1, 0, 1, 2, 100)
 X = name("x")
@@ -85,13 +85,17 @@ class NumberTables(unittest.TestCase):
         # 0 by itself tells both; 1 tells them, too; 2 only the second.
         self.assertEqual(number_table(program, (0, 1, 2)), (((0,), (1,)), ((2,),)))
 
-    def test_two_ways_of_unlike_sizes(self):
-        # b is called with x and y, both 0; it claims x at most y and 3: 3 by itself, or 1 and 2 by x at most 1 and y at least -2.
-        body = ("let", "u", ("call", "b", (X, ("array", "r"))), GIVE)
-        program = program_of(body, ("claim", ("most", X, ("len", "r", 3)), GIVE))
-        program = (*program[:2], (("a", ((1, 0, -1), (0, 2, -2), (1, 2, 3))),))
-        self.assertEqual(number_table(program, (-2, -1, 0, 3)), naive_more.table((-2, -1, 0, 3), lambda part: naive_more.is_let(program, part)))
-        self.assertEqual(number_table(program, (-2, -1, 0, 3)), (((-2,), (-1,), (0,), (3,)), ((),)))
+    def test_parts_of_unlike_sizes(self):
+        # x is at most 10 and y at least -20: x at most y and 30 by the number 30, or by 10 and 20 together.
+        program = promised(("claim", ("most", X, name("y", 30)), GIVE), (1, 0, 10), (0, 2, 20))
+        self.assertEqual(number_table(program, (10, 20, 30)), (((10, 20), (30,)), ((10,), (20,))))
+        self.assertEqual(number_table(program, (5, 10, 20, 30)), (((10, 20), (30,)), ((5, 10), (5, 20))))
+        for numbers in ((10, 20, 30), (5, 10, 15, 20, 30), (10, 19, 20, 21), (9, 10, 20, 29, 30, 31)):
+            table = naive_more.table(numbers, lambda part: naive_more.is_let(program, part))
+            self.assertEqual(number_table(program, numbers), table)
+        told = table_paper(program, (10, 20, 30))
+        self.assertEqual([part for part, _ in told[1]], [(10, 20), (30,)])
+        self.assertTrue(judge_table(program, (10, 20, 30), told))
 
     def test_by_chance(self):
         tables = {}
@@ -127,6 +131,11 @@ class PromiseTables(unittest.TestCase):
         self.assertEqual(promise_table(promised(GIVE, (0, 1, 0), (1, 2, 0)), (0,), 0), (((),), ()))
         self.assertEqual(promise_table(promised(GIVE), (0,), 0), (((),), ()))
         self.assertEqual(promise_table(promised(("never",), (0, 1, 0), (1, 2, 0)), (0,), 0), ((), ((0, 1),)))
+
+    def test_parts_of_unlike_sizes(self):
+        program = promised(("claim", ("most", X, name("y", 30)), GIVE), (1, 0, 10), (1, 2, 30), (0, 2, 20))
+        self.assertEqual(promise_table(program, (10, 20, 30), 0), (((0, 2), (1,)), ((0,), (2,))))
+        self.assertEqual(all_promises_table(program, (10, 20, 30)), ((((0, 0), (0, 2)), ((0, 1),)), (((0, 0),), ((0, 2),))))
 
     def test_promises_that_clash(self):
         program = promised(("never",), (0, 1, 0), (1, 0, -1), (1, 2, 0))
@@ -409,7 +418,6 @@ class Short(unittest.TestCase):
         numbers = (0, 1, 2, 3, 4, 5)
         falls = self.assert_short(program, numbers)[1]
         self.assertEqual([fall[3] for fall in falls if fall[3][:2] == (0, 1)], [(0, 1, c) for c in numbers])
-        self.assertEqual(candidates(program, (0,))[0][0][0], (0, 1, 0))
 
 
 class Stays(Unchanged):
@@ -421,8 +429,6 @@ class Stays(Unchanged):
             (table_paper, [BOTH, (-1, 0)]), (judge_table, [BOTH, (-1, 0), told]), (judge_table, [BOTH, (-1, 0), thing]),
             (needed, [EXAMPLE, (0,)]), (short, [BOTH, (0,)]),
         ), (tuple, bool))
-        self.assertEqual(strongest(EXAMPLE, (0,)), EXAMPLE_KEPT)
-        self.assertEqual(MOST[0], "most")
 
 
 if __name__ == "__main__":

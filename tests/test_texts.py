@@ -8,7 +8,7 @@ from claimfall.texts import format_program, read_program
 from tests import naive_texts
 from tests.asks import Unchanged
 from tests.chance import Maker
-from tests.samples import BOTH, DOWN, EXAMPLE, GIVE, HALVES, LOST, MOST, ZERO, block, claims, fun, most_ways, name, program_of
+from tests.samples import BOTH, DOWN, EXAMPLE, GIVE, HALVES, LOST, MOST, block, claims, fun, most_ways, name, program_of
 
 X = name("x")
 WORDS = ("fun", "open", "give", "let", "if", "else", "claim", "never", "len", "any", "middle")
