@@ -85,8 +85,10 @@ def _fitting(program, assignment, ring, pairs):
 
     Only the pairs are looked at that are told for each function.
     """
+    # A function that calls itself has the same pair on both sides.
     fitting = {
-        (f, g): {(own, other): True for own in pairs[f] for other in pairs[g]} for f in ring for g in ring
+        (f, g): {(own, other): True for own in pairs[f] for other in pairs[g] if f != g or own == other}
+        for f in ring for g in ring
     }
     for f in ring:
         for items, _ in ways(program[1][f]):

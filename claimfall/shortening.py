@@ -3,7 +3,6 @@
 from claimfall.assignments import candidates, with_terms, without
 from claimfall.courses import PARTS, Course
 from claimfall.facts import fulfil
-from claimfall.falling import Standing
 
 
 class Step:
@@ -34,7 +33,7 @@ class Shortening:
         steps = self._asked(falls, self._step(triple, path, item))
         many = len(steps) - 1
         for at in reversed(range(many)):
-            self._course.standing = Standing(without(self._every, [step.triple for step in steps[:at]]))
+            self._course.begin(without(self._every, [step.triple for step in steps[:at]]))
             renewed = self._renewed(steps[at].triple, steps[at + 1:])
             if renewed is not None:
                 steps = [*steps[:at], *renewed]
@@ -51,7 +50,7 @@ class Shortening:
         A fall is asked for by values that do not fulfil its quality where this would be a fact.
         """
         gone = {(f, part, quality): True for f, part, quality, _, _ in falls}
-        self._course.standing = Standing(without(self._every, list(gone)))
+        self._course.begin(without(self._every, list(gone)))
         self._show(goal)
         asked = {triple: True for triple in self._broken(goal, gone)}
         steps = [goal]
